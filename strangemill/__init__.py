@@ -1,0 +1,1 @@
+"""Strangemill: a machine for rows from anybody."""

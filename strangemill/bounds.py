@@ -14,12 +14,19 @@ MOST = 400
 # Signs of a name, the first one counted.
 SIGNS = 12
 
+# Figures of the longest numbers of the mill.
+FIGURES = 13
+
 FACES = 3
 FIELDS = 6
 WAYS = 8
 SIGNATURES = 8
 TAKES = 6
 CATCHES = 4
+
+# Units of a house, and kinds above a kind of it.
+UNITS = 20
+ABOVE = 7
 
 # In this order, from 0, packs number the words.
 WORDS = (

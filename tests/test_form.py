@@ -29,6 +29,11 @@ BARRED = (
     "NamedTuple|TypedDict|TYPE_CHECKING|abstractmethod"
 )
 
+METHODS = (
+    "append clear copy count endswith extend find get index insert items join keys pop remove replace reverse rfind "
+    "setdefault split startswith strip update values zfill"
+).split()
+
 MODULE_LEVEL = (ast.Import, ast.ImportFrom, ast.FunctionDef, ast.ClassDef, ast.Assign)
 
 
@@ -123,6 +128,41 @@ class Form(unittest.TestCase):
                 self.assertTrue(name not in every or name in BUILTINS or name == "ValueError", f"{where} {name}")
             elif not isinstance(node, ast.Attribute):
                 self.assertNotIn(name, every, where)
+
+    def test_expressions_and_statements(self):
+        for where, node in nodes(
+            ast.GeneratorExp, ast.Yield, ast.YieldFrom, ast.Lambda, ast.Try, ast.With, ast.Global, ast.Nonlocal, ast.Delete,
+            ast.Match, ast.Set, ast.SetComp, ast.NamedExpr, ast.AnnAssign,
+        ):
+            told = ast.unparse(node)
+            # As it stands the package needs none of these but a set that is measured.
+            self.assertTrue(told == "{part[0] for part in thing}", f"{where} {told}")
+        for where, node in nodes(ast.FunctionDef, ast.ClassDef):
+            self.assertEqual(node.decorator_list, [], where)
+
+    def test_methods(self):
+        own = {node.name for _, node in nodes(ast.FunctionDef)}
+        for where, node in nodes(ast.Call):
+            if isinstance(node.func, ast.Attribute):
+                self.assertTrue(node.func.attr in METHODS or node.func.attr in own, f"{where} {node.func.attr}")
+        held = {name for one in (str, int, list, dict, set, bytes, tuple) for name in dir(one)}
+        stored = {node.attr for _, node in nodes(ast.Attribute) if isinstance(node.ctx, ast.Store)}
+        for name in own | stored:
+            self.assertTrue(name not in held or name in ("__init__", "__eq__", "__len__"), name)
+
+    def test_no_name_is_a_method_and_an_attribute(self):
+        stored = {node.attr for _, node in nodes(ast.Attribute) if isinstance(node.ctx, ast.Store)}
+        for where, node in nodes(ast.ClassDef):
+            methods = [one.name for one in node.body if isinstance(one, ast.FunctionDef)]
+            self.assertEqual(len(methods), len(set(methods)), where)
+            self.assertEqual([name for name in methods if name in stored], [], where)
+
+    def test_no_two_files_import_from_each_other(self):
+        leads = {name[:-3]: {node.module.split(".", 1)[1] for node in tree.body if isinstance(node, ast.ImportFrom)
+                             and node.module.startswith("strangemill.")} for name, tree in trees()}
+        for _ in leads:
+            leads = {name: those.union(*(leads[one] for one in those)) for name, those in leads.items()}
+        self.assertEqual([name for name, those in leads.items() if name in those], [])
 
     def test_no_values_of_other_kinds(self):
         for where, _ in nodes(ast.AsyncFunctionDef, ast.Await):

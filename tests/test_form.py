@@ -131,14 +131,42 @@ class Form(unittest.TestCase):
 
     def test_expressions_and_statements(self):
         for where, node in nodes(
-            ast.GeneratorExp, ast.Yield, ast.YieldFrom, ast.Lambda, ast.Try, ast.With, ast.Global, ast.Nonlocal, ast.Delete,
-            ast.Match, ast.Set, ast.SetComp, ast.NamedExpr, ast.AnnAssign,
+            ast.GeneratorExp, ast.Yield, ast.YieldFrom, ast.Lambda, ast.With, ast.Global, ast.Nonlocal, ast.Match, ast.Set,
+            ast.SetComp, ast.NamedExpr, ast.AnnAssign,
         ):
             told = ast.unparse(node)
             # As it stands the package needs none of these but a set that is measured.
             self.assertTrue(told == "{part[0] for part in thing}", f"{where} {told}")
         for where, node in nodes(ast.FunctionDef, ast.ClassDef):
             self.assertEqual(node.decorator_list, [], where)
+        for where, node in nodes(ast.Delete):
+            self.assertTrue(all(isinstance(one, ast.Subscript) for one in node.targets), where)
+
+    def test_only_own_errors_are_caught(self):
+        own = [node.name for name, tree in trees() if name == "errors.py" for node in tree.body[1:]]
+        for where, node in nodes(ast.Try):
+            self.assertEqual(node.finalbody + node.orelse, [], where)
+            for handler in node.handlers:
+                caught = handler.type.elts if isinstance(handler.type, ast.Tuple) else [handler.type]
+                self.assertEqual([one.id for one in caught if one.id not in own], [], where)
+        for where, node in nodes(ast.Raise):
+            self.assertIn(node.exc.func.id, own, where)
+
+    def test_no_function_calls_with_more_than_is_plain(self):
+        for where, node in nodes(ast.Call):
+            for part in node.args:
+                if isinstance(part, ast.Starred):
+                    self.assertIsInstance(part.value, ast.Name, where)
+            self.assertEqual([one for one in node.keywords if one.arg is None], [], where)
+
+    def test_tables_of_functions_are_not_called_straight(self):
+        for where, node in nodes(ast.Call):
+            self.assertIsInstance(node.func, (ast.Name, ast.Attribute), where)
+
+    def test_attributes_are_assigned_through_a_local_name(self):
+        for where, node in nodes(ast.Attribute):
+            if isinstance(node.ctx, ast.Store):
+                self.assertIsInstance(node.value, ast.Name, where)
 
     def test_methods(self):
         own = {node.name for _, node in nodes(ast.FunctionDef)}

@@ -78,10 +78,8 @@ def least_paper(sheet, stand):
                 one = widened(found[row], one)
                 if one == found[row]:
                     continue
+            # The wider stand goes wrong only where one of both does, as what is wanted is wanted of single marks.
             found[row] = one
-            # Where the wider stand goes wrong it leads nowhere, so it is asked once more.
-            if word_due(sheet, one) != "":
-                return None
         todo += led_to(sheet, one)
     return found
 

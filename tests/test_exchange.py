@@ -121,6 +121,23 @@ class Things(Case):
         self.bars(2, "", face("Base", (("y", (), "num"),)), kind("Sub"))
         self.bars(3, "", face("Pair", (("y", (), "num"),)))
 
+    def test_what_a_field_holds_fits_nothing_where_its_kind_is_no_kind(self):
+        # Thing 3, a Holds, holds thing 4, a Sub.
+        rows = (("new", "Base"), ("new", "Holds"), ("put", 1), ("get", 1), ("new", "Sub"), ("write", "Holds", "it"), ("ask",), ("get", 1), ("drop",),
+                ("give",))
+        house = House([kind("Main", ways=(way("go", rows=rows),)), kind("Base"), kind("Sub", "Base"), kind("Holds", fields=(("it", "Base"),))])
+        sub = face("Sub", (("x", (), "num"),))
+        for run in runs_of(house):
+            self.assertEqual((run.kept(), run.thing(3)), ([3, 4], ("Holds", (("thing", 4),))))
+            self.barred((Stands, "thing", 3, "it"), run.double(), [], ("Sub",))
+            self.barred((Stands, "thing", 3, "it"), run.double(), [sub])
+            self.barred((Stands, "thing", 3, "it"), run.double(), [sub, kind("Holds", fields=(("it", "Sub"),))])
+            self.barred((Stands, "thing", 3, "it"), run.double(), [kind("Holds", fields=(("it", "Base"),))], ["Sub"])
+            # Where the field goes it is the thing itself that bars.
+            self.barred((Stands, "thing", 3, ""), run.double(), [], ("Sub", "Holds"))
+            run.exchange([kind("Sub"), kind("Holds", fields=(("it", "Sub"),))])
+            self.assertEqual((run.kept(), run.thing(3)), ([3, 4], ("Holds", (("thing", 4),))))
+
     def test_a_field_of_another_sort(self):
         self.bars(2, "a", self.base(("a", "Base")))
         self.bars(2, "a", self.base(("a", "Some")))
@@ -251,6 +268,24 @@ class Frames(Case):
             other = way("own", (), "num", (("num", 44), ("give",)))
             run.exchange([kind("Base", ways=(other,)), kind("Sub", "Base")])
             self.assertEqual(run.answer(0), ("gave", 44))
+
+    def test_each_frame_has_what_the_one_on_it_gives(self):
+        # The types that the three bodies give are unlike, so none may stand for another one.
+        last = way("last", (), "Sub", (("ask",), ("drop",), ("new", "Sub"), ("give",)))
+        inner = way("inner", (), "Base", (("get", 0), ("call", "Main", "last"), ("put", 1), ("get", 1), ("call", "Sub", "low"), ("drop",), ("get", 1),
+                                          ("give",)))
+        outer = way("go", (), "num", (("get", 0), ("call", "Main", "inner"), ("call", "Base", "own"), ("give",)))
+        base, sub = kind("Base", ways=(way("own"),)), kind("Sub", "Base", ways=(way("low"),))
+        house = House([kind("Main", ways=(outer, inner, last)), base, sub])
+        for run in runs_of(house):
+            self.assertEqual([frame[1] for frame in run.frames()], ["go", "inner", "last"])
+            self.barred((Stands, "frame", 0, [1, 2]), run.double(), [kind("Base"), kind("Sub", "Base", ways=(way("own"), way("low")))])
+            self.barred((Stands, "frame", 1, [1, 2, 3, 4]), run.double(), [kind("Sub", "Base")])
+            self.barred((Stands, "frame", 1, [1, 2, 3, 4, 5, 6, 7]), run.double(), [kind("Sub", ways=(way("own"), way("low")))])
+            self.barred((Stands, "frame", 2, [0, 1, 2]), run.double(), [kind("Sub", "Base", (), (("a", "num"),), (way("low"),)), kind("Main")])
+            run.exchange([])
+            run.exchange([kind("Main")])
+            self.assertEqual(run.answer(0), ("gave", 1))
 
     def test_a_type_that_is_a_name_of_no_unit(self):
         # The frame on it never gives, so what would come behind it is no matter.

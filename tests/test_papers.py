@@ -218,6 +218,10 @@ class Holds(unittest.TestCase):
         ):
             self.assertIs(self.holds([first, (8, boxes(mark, "any"), ())]), False, mark)
             self.assertIs(self.holds([(0, boxes(BASE, "num", mark), ()), last]), False, mark)
+            # Also where all else would do: at an entry that nobody comes to.
+            there = body(("ask",), ("give",), ("say",), ("ask",), ("give",), entries=((2, 1), (4, 1)))
+            self.assertIs(self.holds([(4, boxes("num", "any", ()), ("num",))], there), True)
+            self.assertIs(self.holds([(4, boxes("num", "any", mark), ("num",))], there), False, mark)
         caught = TOLD["a catch"][0]
         self.assertIs(self.holds([(4, ANYS, ("Num",))], caught), False)
         # Names of no unit are names, too, but here they are more than is known.

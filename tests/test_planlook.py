@@ -3,7 +3,7 @@
 import random
 import unittest
 
-from plan_chance import mutated, other_plan
+from plan_chance import mutated, other_plan, renamed
 from plan_rules import plan_holds_by_rules
 from run_samples import MACHINES, house_of
 from samples import kind, way
@@ -127,6 +127,28 @@ class Steps(Look):
         self.holds(told, True, other)
         # The plus of row 6 takes the like of row 2, but it is of the other block.
         self.holds([(0, told[0][1], [("do", 6) + told[0][2][0][2:]] + told[0][2][1:]), told[1]], False, other)
+
+    def test_a_row_that_no_do_may_name(self):
+        # Not in the place of the step that is due there either.
+        self.steps(False, PLUS, ("do", 4, [("reg", 0)], None, [], []), PART, ASK, MINUS, TO)
+        self.steps(False, *STEPS0[:5], ("do", 9, [], None, [], []))
+        self.holds(plan(steps10=[SAY, ("do", 12, [("reg", 1)], None, [], [])]), False)
+        self.holds(plan(steps13=[("do", 13, [("reg", 8)], None, [], [])]), False)
+        on = house_of(("num", 1), ("drop",), ("get", 1), ("give",), entries=((2, 0),), takes=("num",))
+        told = [(0, [(("box", 1), 1)], [("to", 2, [])]), (2, [(("box", 1), 1)], [("give", ("reg", 1))])]
+        self.assertIs(plan_holds(on, "Main", "go", told), True)
+        for row in (0, 1, 2, 3):
+            for sources in ([], [("reg", 1)], [("num", 1)]):
+                other = [(0, told[0][1], [("do", row, sources, None, [], [])]), told[1]]
+                self.assertIs(plan_holds(on, "Main", "go", other), False, row)
+
+    def test_registers_are_numbered_from_0_to_15(self):
+        told = plan([("set", 9, ("reg", 1)), *STEPS0[:-1], ("to", 10, [(1, ("reg", 9)), (8, ("reg", 5))])])
+        for old in (0, 1, 2, 3, 4, 5, 8, 9):
+            for new, wanted in ((15, True), (14, True), (16, False), (17, False), (-1, False), (-16, False), (10 ** 20, False)):
+                numbers = list(range(16))
+                numbers[old] = new
+                self.holds(renamed(told, numbers), wanted)
 
     def test_a_quiet_row_behind_the_end(self):
         other = house_of(("get", 1), ("num", 0), ("nought", 5), ("get", 1), ("plus",), ("give",), entries=((5, 1),), takes=("num",))
@@ -407,6 +429,27 @@ class Blocks(Look):
             [(0, MAP0, [("do",)] + STEPS0[1:])] + plan()[1:], [(0, MAP0, [("set",)] + STEPS0)] + plan()[1:],
         ):
             self.holds(told, False)
+
+    def test_steps_of_other_words(self):
+        for word in (
+            "", "deed", "quiet", "say", "part", "out", "in", "reg", "fault", "box", "Do", "do", "set", "to", "nought", "give", "throw",
+        ):
+            for behind in (
+                (), (("reg", 8),), (("reg", 8), []), ([("reg", 8)], []), (("reg", 8), 10, []), (10, [("reg", 8)], None, []),
+                (("reg", 8), None, [], [], []), (10, ("reg", 8), None, [], []),
+            ):
+                step = (word, *behind)
+                self.holds(plan(steps10=[step, GIVE]), False)
+                self.holds(plan(steps10=[SAY, step, GIVE]), False)
+                self.holds(plan(steps10=[step, SAY, GIVE]), False)
+        # Only with the word, too.
+        self.holds(plan(steps10=[("do",) + SAY[1:], GIVE]), True)
+        for word in ("", "deed", "quiet", "say", "Do", "set"):
+            self.holds(plan(steps10=[(word,) + SAY[1:], GIVE]), False)
+            self.holds(plan(steps10=[SAY, (word,) + GIVE[1:]]), False)
+            self.holds(plan(steps13=[(word,) + THROW[1:]]), False)
+            self.holds(plan(STEPS0[:-1] + [(word,) + TO[1:]]), False)
+            self.holds(plan(STEPS0[:1] + [(word,) + NOUGHT[1:]] + STEPS0[2:]), False)
 
     def test_a_plan_is_left_as_it_is(self):
         told = plan()

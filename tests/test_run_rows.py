@@ -3,7 +3,7 @@
 import unittest
 
 from run_samples import MACHINES, end_of, run_of
-from samples import face, kind, way
+from samples import WORDS, face, kind, way
 from strangemill.house import House
 from strangemill.runs import Run
 
@@ -168,6 +168,18 @@ class Things(unittest.TestCase):
             ("num", 5), ("num", 6), ("put", 3), ("get", 0), ("call", "Main", "one"), ("plus",), ("get", 3), ("times",), ("give",),
             ways=(way("one", (), "num", (("num", 8), ("put", 3), ("get", 3), ("give",))),))
         self.assertEqual(told, (("gave", (5 + 8) * 6), [], 1, 1))
+
+    def test_names_that_are_words_of_rows(self):
+        for word in WORDS:
+            one = way(word, (), "num", (("get", 0), ("read", "Main", word), ("num", 1), ("plus",), ("give",)))
+            for row in (("call", "Main", word), ("call", "Sub", word), ("hail", "Named", word)):
+                main = kind("Main", "", ("Named",), ((word, "num"),), (one,))
+                sub = kind("Sub", "Main", ways=(way("go", (), "num", (
+                    ("get", 0), ("num", 6), ("write", "Main", word), ("get", 0), row, ("get", 0), ("read", "Sub", word), ("times",), ("give",))),))
+                house = House([main, sub, face("Named", ((word, (), "num"),))])
+                for machine in MACHINES:
+                    run = Run(house, "Sub", "go", machine=machine)
+                    self.assertEqual((run.go(), run.said(), run.events(), run.made()), (("gave", 42), [], 1, 1), (row, machine))
 
     def test_fields_of_things_of_a_ring(self):
         loop = kind("Ring", fields=(("own", "num"),), ways=(

@@ -35,8 +35,9 @@ def handed_plans(house, plans):
     """The plans that are handed in, as tables, by the kind and the way's name; else BadPlan."""
     found = {}
     for kind, way, plan in plans:
-        if own_body(house, kind, way) is None or (kind, way) in found or not plan_holds(house, kind, way, plan):
+        if own_body(house, kind, way) is None or not plan_holds(house, kind, way, plan):
             raise BadPlan(kind, way)
+        # Of several for one body the last one stays: all of them hold, so by each the run tells the same.
         found[(kind, way)] = plan_table(plan)
     return found
 

@@ -113,6 +113,18 @@ STRANGE = [
 ]
 
 
+TOLD = plan_of(HOUSE, "Main", "step")
+GO = plan_of(HOUSE, "Main", "go")
+# Several plans for one body, all of which hold, alone and mixed with those for another body.
+SEVERAL = [
+    [("Main", "step", plan) for plan in plans]
+    for plans in ((TOLD, TOLD), (TOLD, STRANGE), (STRANGE, TOLD), (STRANGE, TOLD, TOLD), (TOLD, STRANGE, TOLD), (TOLD, TOLD, STRANGE))
+] + [
+    [("Main", "go", GO), ("Main", "step", STRANGE), ("Main", "go", GO), ("Main", "step", TOLD)],
+    [("Main", "step", TOLD), ("Main", "go", GO), ("Main", "step", STRANGE), ("Main", "step", TOLD), ("Main", "go", GO), ("Main", "go", GO)],
+]
+
+
 class Handed(unittest.TestCase):
 
     def test_runs_by_plans_that_are_handed_in(self):
@@ -137,6 +149,42 @@ class Handed(unittest.TestCase):
                     run.on(MACHINES[(turn + at) % 3])
                     told.append(run.answer(number))
                 self.assertEqual(told + [told_of(run)], wanted)
+
+    def test_several_for_one_body(self):
+        # A run goes by any of them, and tells the same.
+        for plans in SEVERAL:
+            for numbers in NUMBERS:
+                for most in (400, 9):
+                    wanted = answers(Run(HOUSE, "Main", "go", (3,), most=most), numbers)
+                    for machine in MACHINES:
+                        self.assertEqual(answers(Run(HOUSE, "Main", "go", (3,), most=most, machine=machine, plans=plans), numbers), wanted)
+                    self.assertEqual(answers(Run(HOUSE, "Main", "go", (3,), most=most, free=True, plans=plans), numbers), wanted)
+
+    def test_several_for_one_body_moved_doubled_and_exchanged(self):
+        for plans in SEVERAL:
+            for numbers in NUMBERS:
+                for turn in range(3):
+                    run, other = Run(HOUSE, "Main", "go", (3,), machine=MACHINES[turn], plans=plans), Run(HOUSE, "Main", "go", (3,))
+                    for at, number in enumerate(numbers):
+                        self.assertEqual(told_of(run), told_of(other))
+                        if run.go() != ("ask",):
+                            break
+                        run = run.double()
+                        run.on(MACHINES[(turn + at) % 3])
+                        if at == 2:
+                            run.exchange([])
+                            other.exchange([])
+                        self.assertEqual(run.answer(number), other.answer(number))
+                    self.assertEqual(told_of(run), told_of(other))
+
+    def test_several_for_one_body_are_kept_as_they_were(self):
+        told = plan_of(HOUSE, "Main", "step")
+        plans = [("Main", "step", told), ("Main", "step", told), ("Main", "step", STRANGE)]
+        run = Run(HOUSE, "Main", "go", (3,), machine="planned", plans=plans)
+        self.assertEqual(plans, [("Main", "step", plan_of(HOUSE, "Main", "step"))] * 2 + [("Main", "step", STRANGE)])
+        plans.clear()
+        told.clear()
+        self.assertEqual(answers(run, NUMBERS[0]), answers(Run(HOUSE, "Main", "go", (3,)), NUMBERS[0]))
 
     def test_an_exchange_forgets_them(self):
         for machine in MACHINES:

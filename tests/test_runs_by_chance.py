@@ -70,13 +70,18 @@ class Runs(unittest.TestCase):
             return None
 
     def handed(self, houses, house):
-        """Plans that hold, for some of the ways, written otherwise than told."""
+        """Plans that hold, for some of the ways, written otherwise than told; for some of these ways several, mixed."""
         plans = []
         for kind_name, way in bodies_of(house):
             plan = plan_of(house, kind_name, way[0])
             if plan is not None and houses.chance(0.4):
-                plan = other_plan(houses.random, house, kind_name, way[0], plan, plan_holds)
-                plans.append((kind_name, way[0], plan))
+                many = houses.one((1, 1, 2, 3))
+                if many > 1:
+                    self.count("several")
+                for _ in range(many):
+                    plan = other_plan(houses.random, house, kind_name, way[0], plan, plan_holds)
+                    plans.append((kind_name, way[0], plan))
+        houses.random.shuffle(plans)
         return plans
 
     def test_runs_on_each_machine_with_exchanges(self):
@@ -101,7 +106,7 @@ class Runs(unittest.TestCase):
                 for run in runs:
                     run.answer(number)
             self.count(reference.told()[0])
-        for what, least in {"gave": 30, "fault": 30, "long": 30, "barred": 5, "let in": 60, "frame": 10, "thing": 5, "deep": 20}.items():
+        for what, least in {"gave": 30, "fault": 30, "long": 30, "barred": 5, "let in": 60, "frame": 10, "thing": 5, "deep": 20, "several": 30}.items():
             self.assertGreaterEqual(self.counts.get(what, 0), least, self.counts)
 
     def all_tell(self, runs, reference):

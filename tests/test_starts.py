@@ -147,11 +147,42 @@ class Plans(unittest.TestCase):
         ):
             self.bad((BadPlan, kind_name, name), [self.GO, (kind_name, name, plan), self.WORSE])
 
-    def test_two_for_one_body(self):
-        self.bad((BadPlan, "Main", "go"), [self.GO, self.GO])
-        self.bad((BadPlan, "Main", "go"), [self.GO, self.NONE, self.GO, ("Nobody", "go", [])])
-        self.bad((BadPlan, "Nobody", "go"), [self.GO, ("Nobody", "go", []), self.GO])
-        self.bad((BadPlan, "Main", "go"), [self.WORSE, self.WORSE])
+    # Another plan of `go` that holds, with a needless step.
+    MORE = ("Main", "go", [(entry, pairs, [("set", 15, ("num", 9))] + steps) for entry, pairs, steps in GO[2]])
+
+    def bad_for_one_body(self, told, plans):
+        """Likewise, and of a free run, too, and whatever stands ahead of the plans or behind them and holds."""
+        for more in (plans, [self.NONE, *plans], [*plans, self.LOW], [self.LOW, *plans, self.NONE]):
+            self.bad(told, more)
+            self.assertEqual(refusal(Run, HOUSE, "Main", "go", (1, 2), free=True, plans=more), told)
+            self.assertEqual(refusal(Run, HOUSE, "Main", "wrong", (1,), free=True, plans=more), told)
+
+    def test_several_for_one_body_that_hold(self):
+        self.assertNotEqual(self.GO, self.MORE)
+        for plans in ([self.GO, self.GO], [self.GO, self.MORE], [self.MORE, self.GO], [self.GO] * 3, [self.MORE, self.GO, self.GO],
+                      [self.GO, self.MORE, self.GO], [self.GO, self.GO, self.MORE], [self.GO, self.NONE, self.GO],
+                      [self.GO, self.NONE, self.MORE, self.NONE, self.LOW, self.LOW, self.GO]):
+            self.bad_for_one_body(None, plans)
+
+    def test_several_for_one_body_of_which_one_does_not_hold(self):
+        for plans in ([self.GO, self.WORSE], [self.WORSE, self.GO], [self.WORSE, self.WORSE], [self.GO, self.GO, self.WORSE],
+                      [self.GO, self.WORSE, self.MORE], [self.WORSE, self.MORE, self.GO], [self.GO, self.NONE, self.WORSE],
+                      [self.GO, self.GO, self.WORSE, ("Main", "none", [])], [self.GO, self.WORSE, ("Nobody", "go", [])]):
+            self.bad_for_one_body((BadPlan, "Main", "go"), plans)
+        # The first one that is bad is told, not the second one for a body.
+        self.bad_for_one_body((BadPlan, "Nobody", "go"), [self.GO, ("Nobody", "go", []), self.GO])
+        self.bad_for_one_body((BadPlan, "Nobody", "go"), [self.GO, self.NONE, self.GO, ("Nobody", "go", []), self.WORSE])
+        self.bad_for_one_body((BadPlan, "Main", "none"), [self.GO, self.MORE, self.NONE, ("Main", "none", []), self.WORSE])
+        # Twice for no way that stands there.
+        self.bad_for_one_body((BadPlan, "Low", "go"), [self.GO, ("Low", "go", self.GO[2]), ("Low", "go", self.GO[2])])
+
+    def test_several_for_one_body_behind_each_word(self):
+        for plans in ([self.GO, self.GO], [self.GO, self.WORSE], [self.WORSE, self.GO]):
+            self.bad((NoRun, "kind"), plans, kind_name="Face")
+            self.bad((NoRun, "way"), plans, name="nothing")
+            self.bad((NoRun, "takes"), plans, numbers=(1,))
+            self.bad((NoRun, "barred"), plans, name="wrong", numbers=(1,))
+            self.assertEqual(refusal(Run, HOUSE, "Main", "go", (1, 2), free=True, machine="planned", plans=plans), (NoRun, "free"))
 
     def test_behind_each_word(self):
         for word, kind_name, name, numbers, free in (
